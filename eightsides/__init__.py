@@ -1,0 +1,1 @@
+"""Eightsides: loops over whole numbers, gone through with shapes of eight sides."""
