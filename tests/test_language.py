@@ -184,6 +184,16 @@ class TestLanguage(unittest.TestCase):
             elif isinstance(node, (ast.FunctionDef, ast.ClassDef)) and node.name not in UNDERSCORED:
                 self.assertRegex(node.name, r"^[A-Za-z]", path)
 
+    def test_parameters_and_locals(self):  # L15
+        for path, tree in trees():
+            kept = [alias.asname or alias.name for node in tree.body if isinstance(node, ast.ImportFrom) for alias in node.names]
+            kept.extend([node.name for node in tree.body if isinstance(node, ast.ClassDef)])
+            for node in ast.walk(tree):
+                if isinstance(node, ast.arg):
+                    self.assertNotIn(node.arg, kept, path)
+                elif isinstance(node, ast.Name) and not isinstance(node.ctx, ast.Load):
+                    self.assertNotIn(node.id, kept, path)
+
     def check_name(self, path, name, is_bound):
         self.assertRegex(name, r"^[A-Za-z][A-Za-z0-9_]*$", path)
         self.assertNotIn(name, UNUSED, path)
