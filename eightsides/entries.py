@@ -13,6 +13,12 @@ def lesser(one, other):
     return other
 
 
+def greater(one, other):
+    if one is None or other is None:
+        return None
+    return max(one, other)
+
+
 def least(entries):
     return min([entry for entry in entries if entry is not None], default=None)
 

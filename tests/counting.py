@@ -43,6 +43,11 @@ def is_kept(point, sides):
     return all(here[f] + here[g] <= c for f, g, c in sides)
 
 
+def kept(points, sides):
+    """Those of the points that keep the sides."""
+    return [point for point in points if is_kept(point, sides)]
+
+
 def sum_of(point, forms):
     here = worths(point)
     return sum([here[f] for f in forms])
@@ -55,6 +60,25 @@ def counted_shape(points):
     all_worths = [worths(point) for point in points]
     forms = range(len(all_worths[0]))
     return [[max([here[f] + here[g] for here in all_worths]) for g in forms] for f in forms]
+
+
+def grown_shape(near, far):
+    """The shape of points without end, of those in a box and of those in a wider one: where a sum grows with the
+    box, there is no greatest."""
+    small, great = counted_shape(near), counted_shape(far)
+    if small is None:
+        return None
+    rows = [zip(one, other) for one, other in zip(small, great)]
+    return [[one if one == other else None for one, other in row] for row in rows]
+
+
+def is_in(table, point):
+    """Whether a point lies in a table."""
+    if table is None:
+        return False
+    here = worths(point)
+    entries = [(f, g, entry) for f, row in enumerate(table) for g, entry in enumerate(row) if entry is not None]
+    return all(here[f] + here[g] <= entry for f, g, entry in entries)
 
 
 def thrown_sides(dice, count, many, low, high):
@@ -82,7 +106,7 @@ def boxed_sides(dice, count):
 
 def boxed_points(count, sides):
     """All points of the small box that keep the sides."""
-    return [point for point in box(count, SIZES[count]) if is_kept(point, sides)]
+    return kept(box(count, SIZES[count]), sides)
 
 
 def sides_round(dice, point, many, slack):

@@ -4,7 +4,9 @@ import copy
 import unittest
 
 from eightsides.closing import closed, held, told_sides, wide
-from tests.counting import Dice, box, boxed_points, boxed_sides, counted_shape, is_kept, sides_round, thrown_sides
+from tests.counting import (
+    Dice, box, boxed_points, boxed_sides, counted_shape, grown_shape, kept, sides_round, thrown_sides,
+)
 from tests.samples import COUNTS, HUGE, flips, forms, points
 
 # Twice the first name is 1: x + y = 1 and x = y.
@@ -163,13 +165,7 @@ class TestClosedCounted(unittest.TestCase):
         near, far = box(2, 14), box(2, 17)
         for turn in range(60):
             sides = thrown_sides(dice, 2, dice.below(6), -3, 3)
-            small = counted_shape([point for point in near if is_kept(point, sides)])
-            great = counted_shape([point for point in far if is_kept(point, sides)])
-            if small is None:
-                wanted = None
-            else:
-                rows = [zip(one, other) for one, other in zip(small, great)]
-                wanted = [[one if one == other else None for one, other in row] for row in rows]
+            wanted = grown_shape(kept(near, sides), kept(far, sides))
             self.assertEqual(closed(2, sides), wanted, sides)
 
     def test_forms_of_the_table(self):
@@ -250,9 +246,9 @@ class TestClosedOtherwise(unittest.TestCase):
         seen = {}
         for turn in range(200):
             sides = boxed_sides(dice, 2)
-            kept = tuple(boxed_points(2, sides))
+            inside = tuple(boxed_points(2, sides))
             shape = closed(2, sides)
-            self.assertEqual(seen.setdefault(kept, shape), shape)
+            self.assertEqual(seen.setdefault(inside, shape), shape)
         self.assertGreater(len(seen), 50)
         tables = list(seen.values())
         for place, table in enumerate(tables):

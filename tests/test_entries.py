@@ -2,7 +2,7 @@
 
 import unittest
 
-from eightsides.entries import below, half, least, lesser, summed
+from eightsides.entries import below, greater, half, least, lesser, summed
 from tests.samples import HUGE
 
 
@@ -17,6 +17,12 @@ class TestEntries(unittest.TestCase):
         for one, other, wanted in ((3, 4, 3), (4, 3, 3), (-HUGE, 0, -HUGE), (None, HUGE, HUGE), (0, None, 0)):
             self.assertEqual(lesser(one, other), wanted)
         self.assertIsNone(lesser(None, None))
+
+    def test_greater(self):
+        for one, other, wanted in ((3, 4, 4), (4, 3, 4), (-HUGE, 0, 0), (-1, -1, -1)):
+            self.assertEqual(greater(one, other), wanted)
+        for one, other in ((None, HUGE), (-HUGE, None), (None, None)):
+            self.assertIsNone(greater(one, other))
 
     def test_least(self):
         self.assertEqual(least([4, None, -2, 0]), -2)

@@ -8,6 +8,7 @@ from eightsides.points import greatest, lies, reaching, some_point
 from eightsides.rings import ring
 from tests.counting import Dice, sides_round, thrown_sides
 from tests.samples import COUNTS, HUGE, points
+from tests.shapes import spoil
 
 CLASHING = (
     [(0, 1, -1)],
@@ -32,14 +33,6 @@ def lists():
 def shapes():
     made = [(count, closed(count, sides)) for count, sides in lists()]
     return [(count, shape) for count, shape in made if shape is not None]
-
-
-def spoil(table):
-    """Changes every list of a table."""
-    for row in table:
-        row[0] = -77
-        row.append(5)
-    table.pop()
 
 
 class TestHandedIn(unittest.TestCase):

@@ -61,9 +61,11 @@ def functions():
 
 def own_members():
     """The names of the package's methods, and of the values that its objects have."""
-    named = [node.name for path, node in functions()]
-    stored = [node.attr for path, node in places() if isinstance(node, ast.Attribute) and isinstance(node.ctx, ast.Store)]
-    return set(named + stored)
+    return set([node.name for path, node in functions()] + stored_values())
+
+
+def stored_values():
+    return [node.attr for path, node in places() if isinstance(node, ast.Attribute) and isinstance(node.ctx, ast.Store)]
 
 
 def drawn_from(tree):
@@ -139,6 +141,7 @@ class TestLanguage(unittest.TestCase):
             self.assertIn(node.__class__.__name__, NODES, where)
             if isinstance(node, ast.Assign):
                 self.assertEqual(len(node.targets), 1, where)
+                self.assertIsInstance(node.targets[0], (ast.Name, ast.Subscript, ast.Attribute), where)
             elif isinstance(node, (ast.For, ast.While)):
                 self.assertEqual(node.orelse, [], where)
             elif isinstance(node, ast.Try):
@@ -174,6 +177,14 @@ class TestLanguage(unittest.TestCase):
                 self.assertLessEqual(len(node.bases), 1, node.name)
                 for part in node.body:
                     self.assertTrue(isinstance(part, (ast.FunctionDef, ast.Pass)) or is_text(part), node.name)
+
+    def test_no_name_is_a_method_here_and_a_value_there(self):  # L18
+        classes = [node for path, node in places() if isinstance(node, ast.ClassDef)]
+        self.assertTrue(classes)
+        for node in classes:
+            methods = [part.name for part in node.body if isinstance(part, ast.FunctionDef)]
+            self.assertEqual(len(methods), len(set(methods)), node.name)
+            self.assertEqual(set(methods) & set(stored_values()), set(), node.name)
 
     def test_names(self):  # L8, L12, L15, L17
         for path, node in places():

@@ -9,6 +9,7 @@ from tests.counting import (
     Dice, box, boxed_points, boxed_sides, counted_shape, is_kept, sides_round, sum_of, thrown_sides,
 )
 from tests.samples import COUNTS, HUGE, flips, forms, points, worths
+from tests.shapes import open_shapes
 
 
 def form_lists(count):
@@ -27,17 +28,6 @@ def thrown_lists(dice, count, many):
         f, g = dice.below(2 * count), dice.below(2 * count)
         for h in (dice.below(2 * count), f, flips(count)[f]):
             found.append(dice.shuffled([f, g, h]))
-    return found
-
-
-def open_shapes(dice, turns):
-    """Shapes of all counts with numbers and None among their entries, with the sides that made them."""
-    found = []
-    for count in COUNTS:
-        for turn in range(turns):
-            point = points(count)[dice.below(24)]
-            sides = sides_round(dice, point, dice.below(3 * count + 1), (0, 2, 9, HUGE)[turn % 4])
-            found.append((count, sides, closed(count, sides)))
     return found
 
 
