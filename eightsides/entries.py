@@ -5,6 +5,12 @@ def below(entry, number):
     return entry is not None and entry < number
 
 
+def above(one, other):
+    if one is None:
+        return other is not None
+    return below(other, one)
+
+
 def lesser(one, other):
     if one is None:
         return other

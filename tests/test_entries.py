@@ -2,7 +2,7 @@
 
 import unittest
 
-from eightsides.entries import below, greater, half, least, lesser, summed
+from eightsides.entries import above, below, greater, half, least, lesser, summed
 from tests.samples import HUGE
 
 
@@ -12,6 +12,10 @@ class TestEntries(unittest.TestCase):
         self.assertIs(below(0, 0), False)
         self.assertIs(below(HUGE, 0), False)
         self.assertIs(below(None, HUGE), False)
+
+    def test_above(self):
+        self.assertEqual([above(entry, 4) for entry in (3, 4, 5, HUGE, None)], [False, False, True, True, True])
+        self.assertEqual([above(entry, None) for entry in (0, HUGE, None)], [False, False, False])
 
     def test_lesser(self):
         for one, other, wanted in ((3, 4, 3), (4, 3, 3), (-HUGE, 0, -HUGE), (None, HUGE, HUGE), (0, None, 0)):
